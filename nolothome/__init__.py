@@ -1,0 +1,1 @@
+"""Nolothome: steps round wheels no lot of which leads home."""
