@@ -6,6 +6,8 @@ MOST_WHEELS = 3
 LEAST_PLACES = 2
 MOST_PLACES = 400
 MOST_STEPS = 40
+# A number of steps may be told by itself, without a row of so many.
+MOST_STEPS_TOLD = 400
 
 
 def is_integer(value, least, most):
@@ -64,3 +66,19 @@ def check_number(value, least, most):
     """Raise BadNumber if a value is no integer from least to most."""
     if not is_integer(value, least, most):
         raise BadNumber()
+
+
+def check_places(value):
+    """Raise BadNumber if a value is not the places of one wheel."""
+    check_number(value, LEAST_PLACES, MOST_PLACES)
+
+
+def check_steps(value, least):
+    """Raise BadNumber if a value is no number of steps that is at least so many."""
+    check_number(value, least, MOST_STEPS_TOLD)
+
+
+def check_long_row(places, value, least):
+    """Raise BadRow or BadNumber if a value is no row round one wheel of at least so many steps."""
+    check_row((places,), value)
+    check_number(len(value), least, MOST_STEPS)

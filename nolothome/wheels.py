@@ -60,3 +60,11 @@ def home_step(wheels):
 def add_steps(wheels, first, second):
     """Give the step of two steps together; the arguments are not checked."""
     return tuple([(one + other) % places for one, other, places in zip(first, second, wheels)])
+
+
+def all_steps(wheels):
+    """Give the list of all steps of wheels, which are not checked."""
+    steps = [()]
+    for places in wheels:
+        steps = [(*step, turn) for step in steps for turn in range(places)]
+    return steps

@@ -1,6 +1,7 @@
 """What the tests share: wheels, rows, wrong values, and lots worked out one by one."""
 
-from itertools import combinations, product
+from itertools import combinations, combinations_with_replacement, product
+from math import gcd
 
 from nolothome.errors import StepError
 
@@ -31,6 +32,21 @@ WRONG_STEPS = [
 WRONG_NUMBERS = [
     None, True, False, -1, -10 ** 30, 10 ** 9 + 1, 10 ** 30, "", "7", (), (7,), [], [7], {}, {7: 7},
 ]
+
+# Values of every kind for an argument that lets any, none of them what a function may return.
+ANY_VALUES = [
+    True, False, 0, 1, -1, 10 ** 30, "", "3", "(3,)", [], [()], [[]], {}, {0: 0}, {"step": (3,)}, (None,), (True,),
+    (0,), ("",), ([],), ([0],), ({},), ({0: ()},), ((), ()), ((), (), ()), (None, None), (True, True), (1, 1),
+    ("a", "b"), ([], []), ({}, {}), ((None,), (None,)), ((True,), (False,)), (([],), ([],)), (({},), ({},)),
+    (((),), ((),)), ((0,), None), ((1,), True), ((1,), 10 ** 30), ((1,), "1"), ((1,), []), ((1,), {}), (None, (1,)),
+    ([1], (1,)), ({1: 1}, (1,)), ("1", (1,)), ((10 ** 30,), (10 ** 30,)), ((-1,), (-1,)), (((((),),),),), [(1,), (1,)],
+    {(1,): (1,)},
+]
+# Places of one wheel, and numbers of 0 to 400, that are none.
+WRONG_PLACES = [
+    None, True, False, 0, 1, -1, -7, 401, 10 ** 30, "", "7", (), (7,), [], [7], {}, {7: 7}, ((7,),), (None, True),
+]
+WRONG_COUNTS = [None, True, False, -1, -400, 401, 10 ** 30, "", "7", (), (7,), [], [7], {}, {7: 7}, ([],), (True,)]
 
 
 def wrong_rows():
@@ -101,3 +117,81 @@ def lots_by_sum(wheels, row):
     for lot in all_lots(row):
         found.setdefault(sum_of(wheels, row, lot), []).append(lot)
     return found
+
+
+def turn(wheels, step, number):
+    """So many times a step, wheel by wheel."""
+    return tuple([at * number % places for at, places in zip(step, wheels)])
+
+
+def times_home(wheels, step):
+    """How often a step must be done to be home, turned one by one."""
+    number = 1
+    while any(turn(wheels, step, number)):
+        number = number + 1
+    return number
+
+
+def leads_home(wheels, row, lots):
+    """Whether one of the lots has home as its sum."""
+    return any(not any(sum_of(wheels, row, lot)) for lot in lots)
+
+
+def is_whole_round(wheels, row):
+    """Whether a row is a whole round, by all its lots."""
+    every = all_lots(row)
+    return bool(row) and leads_home(wheels, row, every[-1:]) and not leads_home(wheels, row, every[1:-1])
+
+
+def reached_numbers(places, turns):
+    """The sums of all lots that are not void round one wheel, as a set of integers, from turns as integers."""
+    reached = set()
+    for at in turns:
+        reached = reached | {at} | {(one + at) % places for one in reached}
+    return reached
+
+
+def ascending_turns(places, steps):
+    """All ascending rows of so many steps round one wheel, as tuples of integers."""
+    return combinations_with_replacement(range(places), steps)
+
+
+def as_row(turns):
+    """The row of steps round one wheel that has these integers."""
+    return tuple([(at,) for at in turns])
+
+
+def units_of(places):
+    """The integers from 1 on, below places, without a divisor but 1 with them."""
+    return [number for number in range(1, places) if gcd(number, places) == 1]
+
+
+def euler_partitions(most):
+    """The numbers of partitions of 0 to most, by Euler's pentagonal numbers."""
+    counts = [1]
+    for number in range(1, most + 1):
+        count = 0
+        for k in range(1, number + 1):
+            sign = 1 if k % 2 else -1
+            for pentagonal in (k * (3 * k - 1) // 2, k * (3 * k + 1) // 2):
+                if pentagonal <= number:
+                    count = count + sign * counts[number - pentagonal]
+        counts.append(count)
+    return counts
+
+
+def told_by(pairs, row):
+    """The pair that tells a row in any order, or None, by a dict from ascending rows to all pairs that tell them."""
+    ascending = tuple(sorted(row))
+    if ascending not in pairs:
+        return None
+    step, integers = pairs[ascending][0]
+    integer_of = dict(zip(ascending, integers))
+    return (step, tuple([integer_of[at] for at in row]))
+
+
+def are_ascending(rows, steps):
+    """Whether rows are a tuple, unlike and in order, of ascending tuples of so many steps."""
+    if type(rows) is not tuple or any([before >= behind for before, behind in zip(rows, rows[1:])]):
+        return False
+    return all([type(row) is tuple and len(row) == steps and list(row) == sorted(row) for row in rows])

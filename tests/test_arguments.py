@@ -1,24 +1,52 @@
-"""Point 1: which error is raised if several apply, for all functions of wheels and sums."""
+"""Point 1: which error is raised if several apply, for all functions."""
 
 import unittest
 from itertools import product
 
-from helper import WRONG_NUMBERS, WRONG_STEPS, WRONG_WHEELS, answer, error, fault, wrong_rows
+from helper import (
+    ANY_VALUES, WRONG_COUNTS, WRONG_NUMBERS, WRONG_PLACES, WRONG_STEPS, WRONG_WHEELS, answer, error, fault, wrong_rows,
+)
+from nolothome.longs import count_long, long_rows, long_teller, most_steps, partitions
+from nolothome.rounds import count_rounds, is_round, parted, round_rows, round_teller, shows_parted
 from nolothome.sums import count_lots, home_lot, never_home, smallest_lot, sums
+from nolothome.tellers import few_teller, has_few, shows_teller, teller
 from nolothome.wheels import multiple, order, size, total
 
 FUNCTIONS = [
     (size, ("wheels",)), (multiple, ("wheels", "step", "number")), (order, ("wheels", "step")),
     (total, ("wheels", "row")), (sums, ("wheels", "row")), (never_home, ("wheels", "row")),
     (home_lot, ("wheels", "row")), (smallest_lot, ("wheels", "row", "step")), (count_lots, ("wheels", "row", "step")),
+    (teller, ("wheels", "row")), (few_teller, ("wheels", "row")), (has_few, ("wheels", "row")),
+    (long_teller, ("places", "long row")), (count_long, ("places", "long steps")), (partitions, ("count",)),
+    (most_steps, ("places",)), (long_rows, ("places", "long steps")), (is_round, ("wheels", "row")),
+    (round_teller, ("places", "long row")), (count_rounds, ("places", "long steps")),
+    (round_rows, ("places", "long steps")), (parted, ("wheels", "home row")),
 ]
-RIGHT = {"wheels": (4, 6), "step": (3, 5), "number": 7, "row": ((3, 5), (0, 0), (2, 3), (3, 5))}
+# Functions that tell of a last argument, which may be any value, whether it is what another may return.
+SHOWING = [(shows_teller, ("wheels", "row")), (shows_parted, ("wheels", "home row"))]
+ROW = ((3, 5), (0, 0), (2, 3), (3, 5))
+RIGHT = {
+    "wheels": (4, 6), "step": (3, 5), "number": 7, "row": ROW, "home row": ROW + ((0, 5),), "places": 7,
+    "long row": ((3,), (3,), (6,), (3,), (3,)), "long steps": 6, "count": 9,
+}
+LONG_ROWS = [
+    (None, None), (True, None), (0, None), ("3", None), ([], None), ([(3,)] * 5, None), ({}, None), ((None,), 0),
+    (((3,),) * 41, None), (((3,),) * 4 + ((7,),), 4), (((3,), 3, (3,)), 1), (((3,), (True,)), 1), (((3, 3),) * 5, 0),
+]
 WRONG = {
     "wheels": [(value, fault("BadWheels", index=index)) for value, index in WRONG_WHEELS],
     "step": [(value, fault("BadStep")) for value in WRONG_STEPS],
     "number": [(value, fault("BadNumber")) for value in WRONG_NUMBERS],
     "row": [(value, fault("BadRow", index=index)) for value, index in wrong_rows()],
+    "places": [(value, fault("BadNumber")) for value in WRONG_PLACES],
+    "count": [(value, fault("BadNumber")) for value in WRONG_COUNTS],
+    "long steps": [(value, fault("BadNumber")) for value in WRONG_COUNTS + [0, 1, 3]],
 }
+# A row that is too short or does not lead home is wrong behind a value that is no row.
+WRONG["home row"] = WRONG["row"] + [(ROW, fault("NotHome")), (((3, 5),), fault("NotHome"))]
+WRONG["long row"] = [(value, fault("BadRow", index=index)) for value, index in LONG_ROWS] + [
+    ((), fault("BadNumber")), (((0,),), fault("BadNumber")), (((3,),) * 3, fault("BadNumber")),
+]
 
 
 class ArgumentsTest(unittest.TestCase):
@@ -51,6 +79,22 @@ class ArgumentsTest(unittest.TestCase):
                     with self.subTest(function=function.__name__, arguments=arguments):
                         self.assertEqual(error(function, *arguments), expected)
 
+    def test_a_last_argument_of_any_value_raises_nothing(self):
+        for function, kinds in SHOWING:
+            for value in ANY_VALUES + [None]:
+                with self.subTest(function=function.__name__, value=value):
+                    self.assertIsInstance(answer(function, *[RIGHT[kind] for kind in kinds], value), bool)
+
+    def test_wrong_arguments_before_a_last_one_of_any_value(self):
+        for function, (first, second) in SHOWING:
+            for last in (None, (), ((3, 5), (1,)), [], {}, True):
+                for at, (value, expected) in enumerate(WRONG[first]):
+                    other = WRONG[second][at % len(WRONG[second])][0]
+                    self.assertEqual(error(function, value, RIGHT[second], last), expected)
+                    self.assertEqual(error(function, value, other, last), expected)
+                for value, expected in WRONG[second]:
+                    self.assertEqual(error(function, RIGHT[first], value, last), expected)
+
     def test_steps_are_those_of_the_wheels_passed(self):
         self.assertEqual(error(order, (4,), (3, 5)), fault("BadStep"))
         self.assertEqual(error(order, (4, 5), (3, 5)), fault("BadStep"))
@@ -58,6 +102,9 @@ class ArgumentsTest(unittest.TestCase):
         self.assertEqual(error(total, (6, 4), ((3, 3), (3, 5))), fault("BadRow", index=1))
         self.assertEqual(error(sums, (4,), ((3,), (3, 5))), fault("BadRow", index=1))
         self.assertEqual(error(count_lots, (4,), ((3,),), (4,)), fault("BadStep"))
+        self.assertEqual(error(teller, (4,), ((3,), (4,))), fault("BadRow", index=1))
+        self.assertEqual(error(is_round, (6, 4), ((3, 3), (3, 5))), fault("BadRow", index=1))
+        self.assertEqual(error(long_teller, 4, ((3,), (3,), (4,))), fault("BadRow", index=2))
 
 
 if __name__ == "__main__":

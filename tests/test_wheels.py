@@ -3,23 +3,13 @@
 import unittest
 from math import prod
 
-from helper import WRONG_WHEELS, all_steps, answer, error, fault
+from helper import WRONG_WHEELS, all_steps, answer, error, fault, times_home
 from nolothome.wheels import is_wheels, multiple, order, size, total
 
 RIGHT_WHEELS = [
     (2,), (3,), (399,), (400,), (2, 2), (4, 6), (6, 4), (20, 20), (2, 200), (200, 2), (133, 3),
     (2, 2, 2), (4, 10, 10), (2, 2, 100), (100, 2, 2), (7, 3, 19),
 ]
-
-
-def times_home(wheels, step):
-    """How often a step must be done to be home, turned one by one."""
-    place = step
-    times = 1
-    while any(place):
-        place = tuple([(at + turn) % places for at, turn, places in zip(place, step, wheels)])
-        times = times + 1
-    return times
 
 
 class ExamplesTest(unittest.TestCase):
