@@ -8,9 +8,34 @@ from helper import (
 )
 from nolothome.longs import count_long, long_rows, long_teller, most_steps, partitions
 from nolothome.rounds import count_rounds, is_round, parted, round_rows, round_teller, shows_parted
+from nolothome.sames import has_same, same_lot, sizes_home
 from nolothome.sums import count_lots, home_lot, never_home, smallest_lot, sums
 from nolothome.tellers import few_teller, has_few, shows_teller, teller
+from nolothome.walks import Walk
 from nolothome.wheels import multiple, order, size, total
+from nolothome.wheeltexts import read_row, write_row
+
+
+def walk(wheels):
+    """What a new walk tells of itself; two walks are never alike."""
+    new = Walk(wheels)
+    return (new.row, new.place, new.places)
+
+
+def walk_with(wheels, step):
+    """What a walk with a step tells of itself."""
+    new = Walk(wheels)
+    new.take(step)
+    return (new.row, new.place, new.places)
+
+
+def full_walk_with(wheels, step):
+    """Take a step for which there is no room."""
+    new = Walk(wheels)
+    for _ in range(40):
+        new.take((0,) * len(wheels))
+    new.take(step)
+
 
 FUNCTIONS = [
     (size, ("wheels",)), (multiple, ("wheels", "step", "number")), (order, ("wheels", "step")),
@@ -21,18 +46,22 @@ FUNCTIONS = [
     (most_steps, ("places",)), (long_rows, ("places", "long steps")), (is_round, ("wheels", "row")),
     (round_teller, ("places", "long row")), (count_rounds, ("places", "long steps")),
     (round_rows, ("places", "long steps")), (parted, ("wheels", "home row")),
+    (same_lot, ("places", "one row")), (has_same, ("places", "one row")), (sizes_home, ("places", "one row")),
+    (walk, ("wheels",)), (walk_with, ("wheels", "step")), (write_row, ("wheels", "row")), (read_row, ("text",)),
 ]
 # Functions that tell of a last argument, which may be any value, whether it is what another may return.
 SHOWING = [(shows_teller, ("wheels", "row")), (shows_parted, ("wheels", "home row"))]
 ROW = ((3, 5), (0, 0), (2, 3), (3, 5))
 RIGHT = {
     "wheels": (4, 6), "step": (3, 5), "number": 7, "row": ROW, "home row": ROW + ((0, 5),), "places": 7,
-    "long row": ((3,), (3,), (6,), (3,), (3,)), "long steps": 6, "count": 9,
+    "long row": ((3,), (3,), (6,), (3,), (3,)), "long steps": 6, "count": 9, "one row": ((3,), (0,), (4,), (3,)),
+    "text": "wheels 4 6\nsteps 3,5 0,0",
 }
-LONG_ROWS = [
+ONE_ROWS = [
     (None, None), (True, None), (0, None), ("3", None), ([], None), ([(3,)] * 5, None), ({}, None), ((None,), 0),
     (((3,),) * 41, None), (((3,),) * 4 + ((7,),), 4), (((3,), 3, (3,)), 1), (((3,), (True,)), 1), (((3, 3),) * 5, 0),
 ]
+WRONG_TEXTS = [None, True, False, 0, 7, 10 ** 30, (), ("wheels 7",), [], ["wheels 7"], {}, {"wheels 7": "steps 1"}]
 WRONG = {
     "wheels": [(value, fault("BadWheels", index=index)) for value, index in WRONG_WHEELS],
     "step": [(value, fault("BadStep")) for value in WRONG_STEPS],
@@ -41,10 +70,12 @@ WRONG = {
     "places": [(value, fault("BadNumber")) for value in WRONG_PLACES],
     "count": [(value, fault("BadNumber")) for value in WRONG_COUNTS],
     "long steps": [(value, fault("BadNumber")) for value in WRONG_COUNTS + [0, 1, 3]],
+    "one row": [(value, fault("BadRow", index=index)) for value, index in ONE_ROWS],
+    "text": [(value, fault("BadText")) for value in WRONG_TEXTS],
 }
 # A row that is too short or does not lead home is wrong behind a value that is no row.
 WRONG["home row"] = WRONG["row"] + [(ROW, fault("NotHome")), (((3, 5),), fault("NotHome"))]
-WRONG["long row"] = [(value, fault("BadRow", index=index)) for value, index in LONG_ROWS] + [
+WRONG["long row"] = WRONG["one row"] + [
     ((), fault("BadNumber")), (((0,),), fault("BadNumber")), (((3,),) * 3, fault("BadNumber")),
 ]
 
@@ -95,6 +126,17 @@ class ArgumentsTest(unittest.TestCase):
                 for value, expected in WRONG[second]:
                     self.assertEqual(error(function, RIGHT[first], value, last), expected)
 
+    def test_too_many_behind_the_errors_of_all_arguments(self):
+        self.assertEqual(error(full_walk_with, (4, 6), (3, 5)), fault("TooMany", most=40))
+        for value, expected in WRONG["step"]:
+            self.assertEqual(error(full_walk_with, (4, 6), value), expected)
+        for function in (long_rows, round_rows):
+            self.assertEqual(error(function, 400, 202), fault("TooMany", most=5000))
+            for value, expected in WRONG["places"]:
+                self.assertEqual(error(function, value, 202), expected)
+            for value, expected in WRONG["count"]:
+                self.assertEqual(error(function, 400, value), expected)
+
     def test_steps_are_those_of_the_wheels_passed(self):
         self.assertEqual(error(order, (4,), (3, 5)), fault("BadStep"))
         self.assertEqual(error(order, (4, 5), (3, 5)), fault("BadStep"))
@@ -105,6 +147,9 @@ class ArgumentsTest(unittest.TestCase):
         self.assertEqual(error(teller, (4,), ((3,), (4,))), fault("BadRow", index=1))
         self.assertEqual(error(is_round, (6, 4), ((3, 3), (3, 5))), fault("BadRow", index=1))
         self.assertEqual(error(long_teller, 4, ((3,), (3,), (4,))), fault("BadRow", index=2))
+        self.assertEqual(error(same_lot, 4, ((3,), (4,))), fault("BadRow", index=1))
+        self.assertEqual(error(walk_with, (6, 4), (3, 5)), fault("BadStep"))
+        self.assertEqual(error(write_row, (6, 4), ((3, 3), (3, 5))), fault("BadRow", index=1))
 
 
 if __name__ == "__main__":
